@@ -1,0 +1,1 @@
+"""Eachgreatest: all greatest sets of a kind, one by one."""

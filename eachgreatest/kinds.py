@@ -52,15 +52,19 @@ def thinned(web, row):
     return row
 
 
+def grown(web, table, kind, row):
+    """The greatest row that comes of putting names, in order, to one of the kind; not of covers."""
+    held = list(row)
+    for name in web[0]:
+        if name not in held and goes_with(table, kind, name, held):
+            held.append(name)
+    return tuple(sorted(held))
+
+
 def filled(web, kind, row):
     """The greatest row (of covers the least) that comes of a row of the kind, or NoRow."""
     if not is_of(web, kind, row):
         raise NoRow(f"what is to be filled is not of the kind {kind}")
     if kind == "cover":
         return thinned(web, row)
-    table = tie_table(web)
-    held = list(row)
-    for name in web[0]:
-        if name not in held and goes_with(table, kind, name, held):
-            held.append(name)
-    return tuple(sorted(held))
+    return grown(web, tie_table(web), kind, row)

@@ -1,5 +1,6 @@
 """What the tests share: webs to try, and the document's words said slowly."""
 
+from functools import lru_cache
 from itertools import combinations
 
 KINDS = ("tied", "apart", "cover")
@@ -31,11 +32,50 @@ def some_tied(names, step):
     return (names, tuple(pair for at, pair in enumerate(pairs) if at * at % step in (0, 1)))
 
 
+def in_a_row(names):
+    return (names, tuple(zip(names, names[1:])))
+
+
+def in_a_ring(names):
+    return (names, tuple(sorted([*zip(names, names[1:]), (names[0], names[-1])])))
+
+
+def in_groups(names, size):
+    """Names next to each other are tied in groups of a size, the last perhaps smaller."""
+    where = {name: at // size for at, name in enumerate(names)}
+    return (names, tuple(pair for pair in combinations(names, 2)
+                         if where[pair[0]] == where[pair[1]]))
+
+
+def on_two_sides(names):
+    """Each second name is tied to each of the others."""
+    return (names, tuple(pair for pair in combinations(names, 2)
+                         if (names.index(pair[0]) + names.index(pair[1])) % 2))
+
+
+def with_the_other_ties(web):
+    return (web[0], tuple(pair for pair in combinations(web[0], 2) if pair not in web[1]))
+
+
+def all_shapes(names):
+    """Webs of no ties, all, few, half and many, a row, a ring, groups, two sides."""
+    return [without_ties(names), all_tied(names), some_tied(names, 11), some_tied(names, 7),
+            with_the_other_ties(some_tied(names, 11)), in_a_row(names), in_a_ring(names),
+            in_groups(names, 3), with_the_other_ties(in_groups(names, 3)), in_groups(names, 2),
+            on_two_sides(names), with_the_other_ties(in_a_ring(names))]
+
+
 FEW = [NONE, ONE, PATH, HOUSE, STAR, BEGINNINGS,
        without_ties(("a", "b", "c")), all_tied(("a", "b", "c")),
        some_tied(tuple("abcdefg"), 5), some_tied(tuple("abcdefg"), 7)]
 MANY = [without_ties(FOURTEEN), all_tied(FOURTEEN), some_tied(FOURTEEN, 3),
         some_tied(FOURTEEN, 11), all_tied(LONG_FOURTEEN), some_tied(LONG_FOURTEEN, 5)]
+
+# Names whose order is not that of their length or of their last letters.
+SEVEN = ("b", "ba", "bab", "c", "ca", "cab", "zz")
+ELEVEN = tuple("abcdefghijk")
+SHAPES = [*FEW, *all_shapes(SEVEN), *all_shapes(ELEVEN)]
+BIG_SHAPES = all_shapes(FOURTEEN)
 
 
 def all_small_webs():
@@ -82,3 +122,51 @@ def slowly_filled(web, kind, row):
         if slowly_of(web, kind, tuple(sorted(tried))):
             held = tried
     return tuple(sorted(held))
+
+
+@lru_cache(maxsize=None)
+def slowly_all(web, kind):
+    """All greatest rows, by one name more (of covers less), as a tuple in order."""
+    rows = {row for row in rows_of(web) if slowly_of(web, kind, row)}
+    told = []
+    for row in rows:
+        if kind == "cover":
+            others = [set(row) - {name} for name in row]
+        else:
+            others = [set(row) | {name} for name in web[0] if name not in row]
+        if not any(tuple(sorted(other)) in rows for other in others):
+            told.append(row)
+    return tuple(sorted(told))
+
+
+def slowly_begun(web, kind, row, name):
+    """What is filled of a told row and a name that is not in it, or None where nothing is."""
+    begun = [other for other in row if other < name and slowly_of(web, kind, (other, name))]
+    begun.append(name)
+    for other in web[0]:
+        if other < name and other not in begun:
+            if slowly_of(web, kind, tuple(sorted([*begun, other]))):
+                return None
+    return tuple(begun)
+
+
+def slowly_walked(web, kind):
+    """What each asking of a walk tells, and fillings, waiting and told behind it."""
+    wait = {slowly_filled(web, kind, ())}
+    told = []
+    fillings = 0
+    while wait:
+        row = sorted(wait)[0]
+        wait.remove(row)
+        told.append(row)
+        for name in web[0]:
+            if name in row:
+                continue
+            begun = slowly_begun(web, kind, row, name)
+            if begun is None:
+                continue
+            fillings += 1
+            comes = slowly_filled(web, kind, begun)
+            if comes not in told:
+                wait.add(comes)
+        yield row, fillings, len(wait), len(told)

@@ -78,6 +78,16 @@ class LanguageTest(unittest.TestCase):
                     self.assertFalse(name.startswith("_"), (path, name))
                     self.assertNotIn(name, dir(builtins), path)
 
+    def test_no_attribute_has_the_name_of_a_method(self):
+        methods, attributes = set(), set()
+        for path, tree in trees():
+            for node in ast.walk(tree):
+                if isinstance(node, ast.ClassDef):
+                    methods |= {part.name for part in node.body if isinstance(part, ast.FunctionDef)}
+                elif isinstance(node, ast.Attribute) and isinstance(node.ctx, ast.Store):
+                    attributes.add(node.attr)
+        self.assertEqual(methods & attributes, set())
+
     def test_builtins(self):
         for path, tree in trees():
             for node in ast.walk(tree):

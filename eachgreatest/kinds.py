@@ -3,7 +3,8 @@
 from eachgreatest.errors import NoRow
 from eachgreatest.webs import is_row, tie_table
 
-# What the two kinds ask of each two names of a row: to be tied, or not to be.
+KINDS = ("tied", "apart", "cover")
+# What the first two kinds ask of each two names of a row: to be tied, or not to be.
 WANTS_TIE = {"tied": True, "apart": False}
 
 

@@ -170,3 +170,42 @@ def slowly_walked(web, kind):
             if comes not in told:
                 wait.add(comes)
         yield row, fillings, len(wait), len(told)
+
+
+def in_crossed_parts(names, many):
+    """Each name is tied to that so many places behind it: parts whose names stand mixed."""
+    return (names, tuple(zip(names, names[many:])))
+
+
+def slowly_parts(web):
+    """The parts, by joining the parts of the two names of each tie."""
+    parts = [{name} for name in web[0]]
+    for tie in web[1]:
+        joined = set().union(*(part for part in parts if part & set(tie)))
+        parts = [part for part in parts if not part & joined] + [joined]
+    return tuple(sorted(tuple(sorted(part)) for part in parts))
+
+
+def alone(web, names):
+    """The web by some names alone."""
+    return (names, tuple(tie for tie in web[1] if set(tie) <= set(names)))
+
+
+def rows_of_ties(web):
+    """Each row of the web's ties, in order."""
+    for many in range(len(web[1]) + 1):
+        yield from combinations(web[1], many)
+
+
+def slowly_ties_apart(web, ties):
+    if list(ties) != sorted(ties) or not all(tie in web[1] for tie in ties):
+        return False
+    return not any(set(one) & set(other) for one, other in combinations(ties, 2))
+
+
+@lru_cache(maxsize=None)
+def slowly_all_ties_apart(web):
+    """All greatest rows of ties apart, by one tie more, as a tuple in order."""
+    rows = {row for row in rows_of_ties(web) if slowly_ties_apart(web, row)}
+    return tuple(sorted(row for row in rows if not any(
+        tuple(sorted([*row, tie])) in rows for tie in web[1] if tie not in row)))
